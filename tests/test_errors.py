@@ -1,0 +1,60 @@
+import unittest
+from itertools import permutations
+
+from everyroad import errors
+
+TEN = (
+    "NoPlace", "TooMany", "NoRound", "NoOrders", "NotEven",
+    "NotWhole", "NoExchange", "NoWindows", "NoRing", "NoNote",
+)
+
+
+class TestErrors(unittest.TestCase):
+    def test_road_error_is_a_value_error(self):
+        self.assertTrue(issubclass(errors.RoadError, ValueError))
+
+    def test_each_stands_under_road_error(self):
+        for name in TEN:
+            with self.subTest(name=name):
+                refusal = getattr(errors, name)
+                self.assertTrue(issubclass(refusal, errors.RoadError))
+                self.assertIsNot(refusal, errors.RoadError)
+                self.assertEqual(refusal.__name__, name)
+
+    def test_none_stands_under_another(self):
+        for one, other in permutations(TEN, 2):
+            with self.subTest(one=one, other=other):
+                self.assertFalse(issubclass(getattr(errors, one), getattr(errors, other)))
+
+    def test_each_can_be_raised_and_taken_by_its_name(self):
+        for name in TEN:
+            refusal = getattr(errors, name)
+            given = [1] if name == "NotWhole" else "words"
+            with self.subTest(name=name), self.assertRaises(refusal):
+                raise refusal(given)
+
+
+class TestNotWhole(unittest.TestCase):
+    def test_left_is_a_list_set_when_made(self):
+        for left in ([], [0], [3, 5, 23]):
+            error = errors.NotWhole(left)
+            self.assertIs(type(error.left), list)
+            self.assertEqual(error.left, left)
+
+    def test_what_was_handed_in_is_not_kept(self):
+        handed = [3, 5]
+        error = errors.NotWhole(handed)
+        handed.append(7)
+        self.assertEqual(error.left, [3, 5])
+        error.left.clear()
+        self.assertEqual(handed, [3, 5, 7])
+
+    def test_two_have_nothing_of_one_another(self):
+        one = errors.NotWhole([1])
+        other = errors.NotWhole([1])
+        one.left.append(2)
+        self.assertEqual(other.left, [1])
+
+
+if __name__ == "__main__":
+    unittest.main()
