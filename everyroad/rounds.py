@@ -1,5 +1,6 @@
 """Rounds of a net: looking at one, and finding one or why there is none."""
 
+from everyroad.errors import NoRound
 from everyroad.net import parts
 
 
@@ -13,6 +14,11 @@ def is_round(net, circuit):
         if net.roads[ahead][1] != net.roads[road][0]:
             return False
     return True
+
+
+def need_round(net, circuit):
+    if not is_round(net, circuit):
+        raise NoRound("the list is no round of the net")
 
 
 def odd_places(net):

@@ -3,10 +3,7 @@ from itertools import permutations
 
 from everyroad import errors
 
-TEN = (
-    "NoPlace", "TooMany", "NoRound", "NoOrders", "NotEven",
-    "NotWhole", "NoExchange", "NoWindows", "NoRing", "NoNote",
-)
+from helper import REFUSALS
 
 
 class TestErrors(unittest.TestCase):
@@ -14,7 +11,7 @@ class TestErrors(unittest.TestCase):
         self.assertTrue(issubclass(errors.RoadError, ValueError))
 
     def test_each_stands_under_road_error(self):
-        for name in TEN:
+        for name in REFUSALS:
             with self.subTest(name=name):
                 refusal = getattr(errors, name)
                 self.assertTrue(issubclass(refusal, errors.RoadError))
@@ -22,12 +19,12 @@ class TestErrors(unittest.TestCase):
                 self.assertEqual(refusal.__name__, name)
 
     def test_none_stands_under_another(self):
-        for one, other in permutations(TEN, 2):
+        for one, other in permutations(REFUSALS, 2):
             with self.subTest(one=one, other=other):
                 self.assertFalse(issubclass(getattr(errors, one), getattr(errors, other)))
 
     def test_each_can_be_raised_and_taken_by_its_name(self):
-        for name in TEN:
+        for name in REFUSALS:
             refusal = getattr(errors, name)
             given = [1] if name == "NotWhole" else "words"
             with self.subTest(name=name), self.assertRaises(refusal):

@@ -4,15 +4,11 @@ from itertools import product
 from everyroad.net import Net
 from everyroad.rounds import is_round
 
-from helper import Draw, all_nets, net_of, state, takes_each_once
+from helper import Draw, all_nets, drawn_round, net_of, state, takes_each_once, turned
 
 # Two ways from 0 to 1 and back, a road from 1 to itself, and a bend over 2.
 ROADS = [(0, 1), (1, 0), (0, 1), (1, 1), (1, 2), (2, 0)]
 ROUND = [0, 3, 1, 2, 4, 5]
-
-
-def turned(circuit):
-    return [circuit[k:] + circuit[:k] for k in range(len(circuit))]
 
 
 class TestRounds(unittest.TestCase):
@@ -122,12 +118,8 @@ class TestManyLists(unittest.TestCase):
         draw = Draw(3)
         for _ in range(400):
             size = 1 + draw.below(8)
-            stops = [draw.below(size) for _ in range(1 + draw.below(24))]
-            count = len(stops)
-            numbers = draw.mixed(range(count))
-            roads = [None] * count
-            for spot, number in enumerate(numbers):
-                roads[number] = (stops[spot], stops[(spot + 1) % count])
+            count = 1 + draw.below(24)
+            roads, numbers = drawn_round(draw, size, count)
             net = net_of(size, roads)
             self.assertIs(is_round(net, numbers), True)
             one, other = draw.below(count), draw.below(count)

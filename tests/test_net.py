@@ -3,14 +3,9 @@ import unittest
 from everyroad.errors import NoPlace, TooMany
 from everyroad.net import Net
 
-from helper import Draw, drawn_roads, net_of, state
+from helper import FAR, Draw, drawn_roads, net_of, no_places, state
 
 SIZES = range(1, 9)
-FAR = (100, -100, 10 ** 9, -10 ** 9, 10 ** 40, -10 ** 40, 10 ** 5000, -10 ** 5000)
-
-
-def no_places(size):
-    return (-1, size, size + 1, -size, -size - 1) + FAR
 
 
 def full_net(size):
