@@ -2,6 +2,7 @@
 
 from everyroad.errors import NoOrders, NotEven, NotWhole
 from everyroad.rounds import need_round, odd_places
+from everyroad.walks import walk_on
 
 
 def orders(net, circuit):
@@ -31,23 +32,13 @@ def need_even(net):
         raise NotEven("from a place not as many roads lead as come")
 
 
-def walked(net, start, rows):
-    waiting = [list(row) for row in rows]
-    place = start
-    path = []
-    while waiting[place]:
-        road = waiting[place].pop(0)
-        path.append(road)
-        place = net.roads[road][1]
-    return path
-
-
 def by_orders(net, start, rows):
     # Where several refusals are due, the first one of these is.
     net.need_place(start)
     need_orders(net, rows)
     need_even(net)
-    path = walked(net, start, rows)
+    # The walk uses lists up, so it is handed copies.
+    path = walk_on(net, start, [list(row) for row in rows])
     left = [road for road in range(len(net.roads)) if road not in path]
     if left:
         raise NotWhole(left)

@@ -2,6 +2,7 @@
 
 from everyroad.errors import NoRound
 from everyroad.net import parts
+from everyroad.walks import waiting_roads, walk_on, with_bends
 
 
 def is_round(net, circuit):
@@ -26,24 +27,11 @@ def odd_places(net):
 
 
 # A round of a net that has roads, one part, and as many roads from each place
-# as to it. A road is set down only when none is left to take behind it, so
-# that detours come to lie within the round. The lists of roads rise, so road 0
-# is taken first, and what is taken first is set down last.
+# as to it. Roads wait rising, so road 0 is taken first; and no bend is set in
+# ahead of it, as the walk goes on till none waits where it began.
 def walk_round(net):
-    waiting = [net.outs(place) for place in range(net.size)]
-    place = net.roads[0][0]
-    path = []
-    backward = []
-    while path or waiting[place]:
-        if waiting[place]:
-            road = waiting[place].pop(0)
-            path.append(road)
-            place = net.roads[road][1]
-        else:
-            road = path.pop()
-            backward.append(road)
-            place = net.roads[road][0]
-    return list(reversed(backward))
+    waiting = waiting_roads(net)
+    return with_bends(net, walk_on(net, net.roads[0][0], waiting), waiting)
 
 
 def find(net):

@@ -10,6 +10,9 @@ REFUSALS = (
     "NotWhole", "NoExchange", "NoWindows", "NoRing", "NoNote",
 )
 FAR = (100, -100, 10 ** 9, -10 ** 9, 10 ** 40, -10 ** 40, 10 ** 5000, -10 ** 5000)
+# All counts of signs and lengths of windows that a net has room for; of one sign up to thirty.
+ROOM = [(1, length) for length in range(1, 31)] + [(signs, 1) for signs in range(2, 25)]
+ROOM += [(2, 2), (3, 2), (4, 2), (2, 3), (2, 4)]
 
 
 def no_places(size):
@@ -37,6 +40,22 @@ def state(net):
     """All that a net tells, as a copy."""
     places = range(net.size)
     return (net.size, list(net.roads), [net.outs(p) for p in places], [net.ins(p) for p in places])
+
+
+def lists_in(value):
+    """All lists within what was told or handed in, those of nets too."""
+    if isinstance(value, Net):
+        return lists_in(value.roads)
+    if not isinstance(value, (list, tuple)):
+        return []
+    own = [value] if isinstance(value, list) else []
+    return own + [row for part in value for row in lists_in(part)]
+
+
+def no_two_one(case, *values):
+    """No list within these is another one of them."""
+    rows = lists_in(values)
+    case.assertEqual(len({id(row) for row in rows}), len(rows))
 
 
 def all_nets(size, most_roads):

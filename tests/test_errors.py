@@ -27,8 +27,19 @@ class TestErrors(unittest.TestCase):
         for name in REFUSALS:
             refusal = getattr(errors, name)
             given = [1] if name == "NotWhole" else "words"
-            with self.subTest(name=name), self.assertRaises(refusal):
-                raise refusal(given)
+            for wider in (refusal, errors.RoadError, ValueError):
+                with self.subTest(name=name, wider=wider), self.assertRaises(wider) as caught:
+                    raise refusal(given)
+                kinds = [one for one in REFUSALS if isinstance(caught.exception, getattr(errors, one))]
+                self.assertEqual(kinds, [name])
+
+    def test_road_error_itself_is_none_of_them(self):
+        error = errors.RoadError("words")
+        self.assertFalse(any(isinstance(error, getattr(errors, name)) for name in REFUSALS))
+
+    def test_there_are_no_others(self):
+        found = [name for name, one in vars(errors).items() if isinstance(one, type)]
+        self.assertEqual(sorted(found), sorted(REFUSALS + ("RoadError",)))
 
 
 class TestNotWhole(unittest.TestCase):
